@@ -1,0 +1,1 @@
+"""Fewnotes: hands over shared cells, recorded by the fewest notes."""
