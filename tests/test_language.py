@@ -21,6 +21,7 @@ KEYWORDS = {"sorted": ["key", "reverse"], "min": ["key", "default"], "max": ["ke
             "enumerate": ["start"], "zip": ["strict"]}
 WORDS = """type typing typing_extensions enum Enum IntEnum StrEnum Flag IntFlag Generic Protocol ABC ABCMeta namedtuple
 NamedTuple TypedDict TYPE_CHECKING abstractmethod""".split()
+CHANGES = "append clear extend insert pop remove reverse setdefault update".split()
 UNUSED = """register mro elements open input version_info with_traceback add_note format format_map""".split()
 STATEMENTS = (ast.Assign, ast.AugAssign, ast.If, ast.While, ast.For, ast.Return, ast.Break, ast.Continue, ast.Pass,
               ast.Raise, ast.Try, ast.Expr, ast.FunctionDef, ast.ClassDef, ast.ImportFrom)
@@ -62,6 +63,7 @@ class Sight:
         self.look_at_statements()
         self.look_at_names()
         self.look_at_calls(methods)
+        self.look_at_loops()
         self.look_at_defs()
         return self.faults
 
@@ -182,6 +184,31 @@ class Sight:
             if walked and not self.is_walked(node):
                 self.fault("L23", node, name)
 
+    def look_at_loops(self):
+        for node in self.nodes:
+            if not isinstance(node, ast.For):
+                continue
+            walked = self.walked_by(node.iter)
+            for part in [part for row in node.body for part in ast.walk(row)]:
+                if isinstance(part, ast.Subscript) and isinstance(part.ctx, ast.Store):
+                    changed = [part.value]
+                elif isinstance(part, ast.Call) and isinstance(part.func, ast.Attribute) and part.func.attr in CHANGES:
+                    changed = [part.func.value]
+                else:
+                    changed = []
+                if any(ast.unparse(one) in walked for one in changed):
+                    self.fault("L23", part)
+
+    def walked_by(self, node):
+        """What a loop walks, itself or through enumerate and its like, as texts."""
+        if not isinstance(node, ast.Call):
+            return [ast.unparse(node)]
+        if isinstance(node.func, ast.Attribute):
+            return [ast.unparse(node.func.value)] if node.func.attr in ("items", "keys", "values") else []
+        if node.func.id in ("enumerate", "zip", "reversed"):
+            return [text for part in node.args for text in self.walked_by(part)]
+        return []
+
     def is_walked(self, node):
         above = self.parents[node]
         if isinstance(above, (ast.For, ast.comprehension)):
@@ -272,6 +299,8 @@ class Language(unittest.TestCase):
                            ("def f(x):\n    x.sort()", "L25"), ("def f(x):\n    return x is f", "L20"),
                            ("def f(x):\n    return reversed(range(x))", "L23"), ("x = 1\nx = 2", "L15"),
                            ("def f():\n    a = b = 1", "L6"), ("class A:\n    x = 1", "L5"),
+                           ("def f(x):\n    for y in x:\n        x.append(y)", "L23"),
+                           ("def f(x):\n    for k, y in enumerate(x):\n        x[k] = y", "L23"),
                            ("# the type of it", "L17"), ("def f(x):\n    with x:\n        pass", "L6")]:
             self.assertIn(rule, [fault[1] for fault in Sight("x.py", text).look([])], text)
 

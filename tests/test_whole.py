@@ -1,10 +1,14 @@
-"""Point 4, the promise of the whole, and point 1, as far as programs, works and webs can show them."""
+"""Point 4, the promise of the whole, and point 1, as far as what is built can show them."""
 
 import itertools
 import random
 import unittest
 
+from fewnotes.cuts import first_order, how_many_cuts, how_many_orders, is_cut, keeps, ring
+from fewnotes.notes import enough, notes, parting, parting_shows
 from fewnotes.programs import read, shown
+from fewnotes.strict import apart_shows, meets_want, strict_notes, wants_apart
+from fewnotes.texts import read_record, record_text
 from fewnotes.webs import meet, must_ahead, names, same_run, touches_of, web_of
 from fewnotes.works import Works
 
@@ -158,6 +162,125 @@ class TheWhole(unittest.TestCase):
                 if written is not None:
                     cells[cell] = written
             self.assertEqual(works.cells(), cells)
+
+
+def record_by(program, web, some):
+    hands = [touch[0] for touch in web]
+    return [hands.count(hand) for hand in range(len(program[1]))], some
+
+
+def some_order_by(chance, record):
+    """An order of hands in which each turn is free by the notes of the record, as far as one is."""
+    counts, some = record
+    done = [0 for count in counts]
+    order = []
+    while True:
+        free = [hand for hand, count in enumerate(counts) if done[hand] < count
+                and all(k < done[one] for one, k, other, m in some if (other, m) == (hand, done[hand]))]
+        if not free:
+            return order
+        order.append(chance.choice(free))
+        done[order[-1]] += 1
+
+
+class TheFewest(unittest.TestCase):
+    def runs(self, seed, count, most):
+        chance = random.Random(seed)
+        for turn in range(count):
+            program = some_program(chance)
+            order, works = some_run(chance, program, most)
+            yield chance, program, order, works, web_of(program, order)
+
+    def replayed(self, program, hands):
+        works = Works(program)
+        for hand in hands:
+            works.turn(hand)
+        return works
+
+    def goes_alike(self, chance, program, order, works, record):
+        again = some_order_by(chance, record)
+        self.assertEqual(len(again), len(order))
+        self.assertIs(keeps(record, again), True)
+        self.assertEqual(touches_of(program, again), touches_of(program, order))
+        self.assertEqual(self.replayed(program, again), works)
+        return again != order
+
+    def test_every_order_free_by_the_notes_tells_the_same_run(self):
+        turned = 0
+        for chance, program, order, works, web in self.runs(11, 200, 20):
+            record = record_by(program, web, notes(web))
+            for again in range(4):
+                turned += self.goes_alike(chance, program, order, works, record)
+        self.assertGreater(turned, 150)
+
+    def test_every_order_free_by_strict_notes_does_too(self):
+        turned = 0
+        for chance, program, order, works, web in self.runs(12, 200, 20):
+            record = record_by(program, web, strict_notes(web))
+            for again in range(4):
+                turned += self.goes_alike(chance, program, order, works, record)
+        self.assertGreater(turned, 100)
+
+    def test_the_orders_by_the_notes_are_those_that_tell_the_same_run(self):
+        for chance, program, order, works, web in self.runs(13, 60, 6):
+            record = record_by(program, web, notes(web))
+            kept = 0
+            for hands in sorted(set(itertools.permutations(order))):
+                named = names(web)
+                places = [named.index((hand, hands[:k].count(hand))) for k, hand in enumerate(hands)]
+                self.assertIs(keeps(record, list(hands)), same_run(web, places))
+                kept += same_run(web, places)
+            self.assertEqual(how_many_orders(record), kept)
+
+    def test_no_note_can_be_left_out(self):
+        seen = 0
+        for chance, program, order, works, web in self.runs(14, 100, 14):
+            told = notes(web)
+            for note in told:
+                others = record_by(program, web, [each for each in told if each != note])
+                self.assertIs(enough(web, others[1]), False)
+                first, second = parting(web, note)
+                self.assertIs(parting_shows(web, note, (first, second)), True)
+                for places, due in [(first, True), (second, False)]:
+                    hands = [web[place][0] for place in places]
+                    self.assertIs(same_run(web, places), due)
+                    self.assertIs(keeps(others, hands), True)
+                    self.assertIs(keeps(record_by(program, web, told), hands), due)
+                seen += 1
+        self.assertGreater(seen, 150)
+
+    def test_strict_notes_are_never_fewer_than_told(self):
+        seen = 0
+        for chance, program, order, works, web in self.runs(15, 100, 30):
+            strict, wants = strict_notes(web), wants_apart(web)
+            self.assertEqual(len(strict), len(wants))
+            self.assertIs(apart_shows(web, wants), True)
+            self.assertIs(enough(web, strict), True)
+            for want in wants:
+                # One note meets no two of them: so as many are needed as there are.
+                self.assertEqual([meets_want(web, note, want) for note in strict].count(True), 1)
+            seen += len(wants)
+        self.assertGreater(seen, 200)
+
+    def test_records_of_runs(self):
+        for chance, program, order, works, web in self.runs(16, 100, 16):
+            record = record_by(program, web, notes(web))
+            self.assertIs(keeps(record, order), True)
+            self.assertLessEqual(first_order(record), order)
+            self.assertIsNone(ring(record))
+            for length in range(len(order) + 1):
+                done = [order[:length].count(hand) for hand in range(len(record[0]))]
+                self.assertIs(is_cut(record, done), True)
+            self.assertEqual(read_record(record_text(record)), record)
+            self.assertGreaterEqual(how_many_cuts(record), len(order) + 1)
+            self.assertGreaterEqual(how_many_orders(record), 1)
+
+    def test_a_race_recorded(self):
+        program = read("cells 1\nhand\nload a 0\nstore 0 a+1\nsay a\nhand\nload a 0\nstore 0 a+1\nsay a")
+        web = web_of(program, [0, 1, 0, 1])
+        self.assertEqual(notes(web), [(0, 1, 1, 1), (1, 0, 0, 1)])
+        self.assertEqual(record_text(([2, 2], notes(web))), "counts 2 2\n0.1 1.1\n1.0 0.1")
+        self.assertEqual(how_many_orders(([2, 2], notes(web))), 2)
 
 
 if __name__ == "__main__":
