@@ -12,7 +12,7 @@ def notes(web):
     told = []
     for place, name in enumerate(named):
         found = bare_steps(web, named, knowns, place)
-        told.extend([named[earlier] + name for earlier in found[0] if named[earlier][0] != name[0]])
+        told.extend(notes_to(named, found[0], name))
         knowns.append(found[1])
     return sorted(told)
 
@@ -36,10 +36,9 @@ def parting(web, note):
     places = places_of(web)
     one = places[note[:2]]
     other = places[note[2:]]
-    left = steps_left(web, 0, other)
     # No way leads over these from the one to the other: so the two may stand side by side behind them.
-    ahead = [place for place in range(other) if place in left and place != one]
-    behind = [place for place in range(len(web)) if place not in left]
+    ahead = ahead_of_both(web, one, other)
+    behind = [place for place in range(len(web)) if place not in ahead and place not in (one, other)]
     return (ahead + [one, other] + behind, ahead + [other, one] + behind)
 
 
@@ -87,6 +86,18 @@ def places_of(web):
     for place, name in enumerate(names(web)):
         places[name] = place
     return places
+
+
+def ahead_of_both(web, one, other):
+    """The places that must come ahead of the two places of a note, without the two, in the web's order."""
+    # What must come ahead of the one must come ahead of the other too, as the one itself must.
+    left = steps_left(web, 0, other)
+    return [place for place in range(other) if place in left and place != one]
+
+
+def notes_to(named, bare, name):
+    """The notes to the touch of this name from those at the bare places; its own hand's order needs none."""
+    return [named[earlier] + name for earlier in bare if named[earlier][0] != name[0]]
 
 
 def bare_steps(web, named, knowns, place):

@@ -22,6 +22,8 @@ KEYWORDS = {"sorted": ["key", "reverse"], "min": ["key", "default"], "max": ["ke
 WORDS = """type typing typing_extensions enum Enum IntEnum StrEnum Flag IntFlag Generic Protocol ABC ABCMeta namedtuple
 NamedTuple TypedDict TYPE_CHECKING abstractmethod""".split()
 CHANGES = "append clear extend insert pop remove reverse setdefault update".split()
+# By these a text begins that `__str__` and `__repr__` may tell.
+STARTS = ("'", '"', "f'", 'f"', "str(", "repr(")
 UNUSED = """register mro elements open input version_info with_traceback add_note format format_map""".split()
 STATEMENTS = (ast.Assign, ast.AugAssign, ast.If, ast.While, ast.For, ast.Return, ast.Break, ast.Continue, ast.Pass,
               ast.Raise, ast.Try, ast.Expr, ast.FunctionDef, ast.ClassDef, ast.ImportFrom)
@@ -224,10 +226,8 @@ class Sight:
                 self.fault("L4", node, node.name)
             if not all(isinstance(value, ast.Constant) for value in given.defaults):
                 self.fault("L4", node, node.name)
-            if node.name == "__len__":
-                for part in ast.walk(node):
-                    if isinstance(part, ast.Return) and not ast.unparse(part.value).startswith("len("):
-                        self.fault("L28", part)
+            if node.name in DUNDERS:
+                self.look_at_dunder(node)
         for node in self.classes:
             if node.decorator_list or len(node.bases) > 1 or node.keywords or node not in self.tree.body:
                 self.fault("L5", node, node.name)
@@ -235,6 +235,19 @@ class Sight:
             names = [part.name for part in body if isinstance(part, ast.FunctionDef)]
             if len(names) != len(body) or len(names) != len(set(names)):
                 self.fault("L5", node, node.name)
+
+    def look_at_dunder(self, node):
+        starts = {"__len__": ("len(",), "__str__": STARTS, "__repr__": STARTS}.get(node.name, ("",))
+        for part in ast.walk(node):
+            if isinstance(part, ast.Return) and (node.name == "__init__"
+                                                 or not ast.unparse(part.value).startswith(starts)):
+                self.fault("L28", part)
+            if node.name == "__init__":
+                continue
+            changed = isinstance(part, (ast.Attribute, ast.Subscript)) and isinstance(part.ctx, ast.Store)
+            changed = changed or isinstance(part, ast.AugAssign)
+            if changed or isinstance(part, ast.Call) and getattr(part.func, "attr", "") in CHANGES:
+                self.fault("L28", part)
 
     def method_names(self):
         return [part.name for node in self.classes for part in node.body if isinstance(part, ast.FunctionDef)]
@@ -301,6 +314,11 @@ class Language(unittest.TestCase):
                            ("def f():\n    a = b = 1", "L6"), ("class A:\n    x = 1", "L5"),
                            ("def f(x):\n    for y in x:\n        x.append(y)", "L23"),
                            ("def f(x):\n    for k, y in enumerate(x):\n        x[k] = y", "L23"),
+                           ("class A:\n    def __len__(self):\n        return self.x", "L28"),
+                           ("class A:\n    def __str__(self):\n        return self.x", "L28"),
+                           ("class A:\n    def __str__(self):\n        self.x = 1\n        return 'x'", "L28"),
+                           ("class A:\n    def __eq__(self, x):\n        return self.x.pop() == x", "L28"),
+                           ("class A:\n    def __init__(self):\n        return None", "L28"),
                            ("# the type of it", "L17"), ("def f(x):\n    with x:\n        pass", "L6")]:
             self.assertIn(rule, [fault[1] for fault in Sight("x.py", text).look([])], text)
 

@@ -1,12 +1,15 @@
-"""Point 4, the promise of the whole, and point 1, as far as what is built can show them."""
+"""Point 4, the promise of the whole, and point 1."""
 
 import itertools
 import random
 import unittest
 
-from fewnotes.cuts import first_order, how_many_cuts, how_many_orders, is_cut, keeps, ring
+from fewnotes.cuts import first_order, how_many_cuts, how_many_orders, is_cut, keeps, least_cut, ring
 from fewnotes.notes import enough, notes, parting, parting_shows
 from fewnotes.programs import read, shown
+from fewnotes.recorder import Recorder
+from fewnotes.records import across, both_ways, cut_record, record_of
+from fewnotes.replay import Replay, played
 from fewnotes.strict import apart_shows, meets_want, strict_notes, wants_apart
 from fewnotes.texts import read_record, record_text
 from fewnotes.webs import meet, must_ahead, names, same_run, touches_of, web_of
@@ -281,6 +284,202 @@ class TheFewest(unittest.TestCase):
         self.assertEqual(notes(web), [(0, 1, 1, 1), (1, 0, 0, 1)])
         self.assertEqual(record_text(([2, 2], notes(web))), "counts 2 2\n0.1 1.1\n1.0 0.1")
         self.assertEqual(how_many_orders(([2, 2], notes(web))), 2)
+
+
+def busy_program(chance):
+    """A program whose hands go round and round, so that runs of many turns are there."""
+    cells = chance.randrange(1, 5)
+    lines = [f"cells {cells}"]
+    for hand in range(chance.randrange(2, 7)):
+        rows = chance.randrange(3, 9)
+        lines.append("hand")
+        for row in range(rows):
+            line = some_row(chance, cells, rows)
+            # Back at the end alone, over a touch: so no hand is lost, and few end.
+            lines.append(f"unless a < b+500 go {rows}" if "go" in line else line)
+        lines.extend([f"store {chance.randrange(cells)} {some_sum(chance)}", "say a+b"])
+        lines.append(chance.choice(["go 0", "go 0", "go 0", "say b"]))
+    return read("\n".join(lines))
+
+
+def ends(works):
+    hands = range(len(works.counts()))
+    return works.cells(), [(works.said(hand), works.how(hand), works.boxes(hand)) for hand in hands]
+
+
+class TheReplays(unittest.TestCase):
+    def runs(self, seed, count, most):
+        chance = random.Random(seed)
+        for turn in range(count):
+            program = busy_program(chance) if turn % 4 else some_program(chance)
+            order, works = some_run(chance, program, chance.randrange(most + 1))
+            yield chance, program, order, works, web_of(program, order)
+
+    def choices(self, chance):
+        """Different ways to choose among the free hands."""
+        last = []
+
+        def unlike_the_last(free):
+            others = [hand for hand in free if hand not in last[-1:]]
+            last.append((others or free)[0])
+            return last[-1]
+
+        return [lambda free: free[0], lambda free: free[-1], chance.choice, unlike_the_last]
+
+    def replayed_to_its_end(self, replay, choose):
+        """The touches of each hand of a replay that is taken on as long as a hand is free."""
+        touches = [[] for count in replay.counts()]
+        left = len(replay)
+        while replay.free():
+            hand = choose(replay.free())
+            touches[hand].append(replay.turn(hand))
+            left -= 1
+            self.assertEqual(len(replay), left)
+        self.assertIs(replay.done(), True)
+        self.assertEqual((left, len(replay)), (0, 0))
+        return touches
+
+    def test_every_replay_by_the_notes_of_a_run_is_the_run(self):
+        turned = 0
+        for chance, program, order, works, web in self.runs(21, 80, 60):
+            record = record_of(len(program[1]), web)
+            for some in [notes(web), strict_notes(web)]:
+                for choose in self.choices(chance):
+                    replay = Replay(Works(program), (record[0], some))
+                    self.assertEqual(self.replayed_to_its_end(replay, choose), touches_of(program, order))
+                    self.assertEqual(replay.works(), works)
+                    self.assertEqual(ends(replay.works()), ends(works))
+                for choose in self.choices(chance):
+                    again = played(Works(program), (record[0], some), choose)
+                    self.assertIs(keeps((record[0], some), again), True)
+                    self.assertEqual(touches_of(program, again), touches_of(program, order))
+                    turned += again != order
+        self.assertGreater(turned, 300)
+
+    def test_three_hundred_turns(self):
+        longest = 0
+        for chance, program, order, works, web in self.runs(22, 6, 600):
+            order = order[:300]
+            web, works = web_of(program, order), Works(program)
+            for hand in order:
+                works.turn(hand)
+            counts = record_of(len(program[1]), web)[0]
+            for some in [notes(web), strict_notes(web)]:
+                for choose in self.choices(chance):
+                    replay = Replay(Works(program), (counts, some))
+                    self.assertEqual(self.replayed_to_its_end(replay, choose), touches_of(program, order))
+                    self.assertEqual(replay.works(), works)
+            longest = max(longest, len(order))
+        self.assertEqual(longest, 300)
+
+    def test_so_too_from_any_cut_on(self):
+        amid = 0
+        for chance, program, order, works, web in self.runs(23, 60, 24):
+            hands = len(program[1])
+            touches = touches_of(program, order)
+            for some in [notes(web), strict_notes(web)]:
+                record = (record_of(hands, web)[0], some)
+                for again in range(4):
+                    cut = some_cut(chance, record)
+                    first, second = cut_record(record, cut)
+                    replay = Replay(Works(program), first)
+                    self.assertEqual(self.replayed_to_its_end(replay, chance.choice),
+                                     [each[:done] for each, done in zip(touches, cut)])
+                    for choose in self.choices(chance):
+                        rest = Replay(replay.works(), second)
+                        self.assertEqual(self.replayed_to_its_end(rest, choose),
+                                         [each[done:] for each, done in zip(touches, cut)])
+                        self.assertEqual(rest.works(), works)
+                        self.assertEqual(ends(rest.works()), ends(works))
+                    # A cut that is no beginning of the run itself.
+                    amid += cut != [order[:sum(cut)].count(hand) for hand in range(hands)]
+        self.assertGreater(amid, 90)
+
+    def test_from_amid_a_run_on(self):
+        for chance, program, order, works, web in self.runs(24, 60, 40):
+            hands, at = len(program[1]), chance.randrange(len(order) + 1)
+            amid = Works(program)
+            for hand in order[:at]:
+                amid.turn(hand)
+            for choose in self.choices(chance):
+                replay = Replay(amid, record_of(hands, web[at:]))
+                self.replayed_to_its_end(replay, choose)
+                self.assertEqual(replay.works(), works)
+
+    def test_without_a_note_an_order_is_free_the_other_way_about(self):
+        seen = 0
+        for chance, program, order, works, web in self.runs(25, 60, 16):
+            record = record_of(len(program[1]), web)
+            for note in record[1]:
+                others = (record[0], [each for each in record[1] if each != note])
+                hands, first, second = both_ways(program, order, note)
+                replay = Replay(Works(program), others)
+                for hand in hands:
+                    replay.turn(hand)
+                self.assertEqual((replay.counts()[note[0]], replay.counts()[note[2]]), (note[1], note[3]))
+                one, other = replay, replay.twin()
+                self.assertEqual((one.turn(note[0]), one.turn(note[2])), first)
+                self.assertEqual((other.turn(note[2]), other.turn(note[0])), second)
+                touches = touches_of(program, order)
+                self.assertEqual(first, (touches[note[0]][note[1]], touches[note[2]][note[3]]))
+                # By the whole record it is held just there.
+                held = Replay(Works(program), record)
+                for hand in hands:
+                    held.turn(hand)
+                self.assertNotIn(note[2], held.free())
+                self.assertIn(note[0], held.free())
+                seen += 1
+        self.assertGreater(seen, 150)
+
+    def test_what_is_recorded_as_the_run_goes(self):
+        seen = 0
+        for chance, program, order, works, web in self.runs(26, 60, 40):
+            hands = len(program[1])
+            recorder, run = Recorder(hands), Works(program)
+            for place, hand in enumerate(order):
+                touch = run.turn(hand)
+                brought = recorder.did(hand, touch[0], touch[1])
+                so_far = web[:place + 1]
+                self.assertEqual((recorder.counts(), recorder.notes()), record_of(hands, so_far))
+                self.assertEqual(recorder.counts(), run.counts())
+                self.assertEqual(brought, [note for note in notes(so_far) if note[2:] == names(so_far)[-1]])
+                self.assertEqual(str(recorder), record_text(record_of(hands, so_far)))
+                due = [len([one for one in range(place) if web[one][0] == other and must_ahead(so_far, one, place)])
+                       for other in range(hands)] if place % 5 == 0 else None
+                if due:
+                    due[hand] += 1
+                    self.assertEqual(recorder.known(hand), due)
+            seen += len(recorder)
+        self.assertGreater(seen, 400)
+
+    def test_what_is_known_to_a_hand_is_the_least_cut_with_its_last_touch(self):
+        for chance, program, order, works, web in self.runs(27, 60, 30):
+            hands = len(program[1])
+            recorder = Recorder(hands)
+            for touch in web:
+                recorder.did(*touch)
+            record = record_of(hands, web)
+            for hand in range(hands):
+                last = [count if one == hand else 0 for one, count in enumerate(record[0])]
+                self.assertEqual(recorder.known(hand), least_cut(record, last))
+
+    def test_records_joined_are_records_of_the_whole(self):
+        for chance, program, order, works, web in self.runs(28, 60, 30):
+            hands, at = len(program[1]), chance.randrange(len(order) + 1)
+            first, second = record_of(hands, web[:at]), record_of(hands, web[at:])
+            counted_on = [(h, k + first[0][h], o, m + first[0][o]) for h, k, o, m in second[1]]
+            joined = sorted(first[1] + counted_on + across(web[:at], web[at:]))
+            counts = [one + other for one, other in zip(first[0], second[0])]
+            self.assertEqual((counts, joined), record_of(hands, web))
+            self.assertEqual(cut_record((counts, joined), first[0]), (first, second))
+            self.assertEqual(read_record(record_text((counts, joined))), record_of(hands, web))
+
+
+def some_cut(chance, record):
+    """A cut of a record that can be come to, of some number of touches."""
+    order = some_order_by(chance, record)
+    done = order[:chance.randrange(len(order) + 1)]
+    return [done.count(hand) for hand in range(len(record[0]))]
 
 
 if __name__ == "__main__":
